@@ -1,0 +1,87 @@
+"""The names, arguments and kinds of values of the interface, each in the file under which it is listed."""
+
+import inspect
+import unittest
+
+from unnamedlives import errors, expressions, signatures, words
+
+FUNCTIONS = {
+    words: {"is_name": "(text)"},
+}
+CLASSES = {
+    signatures: {
+        "Signature": {
+            "__init__": "(self, name, count, *, sources=())",
+            "fresh": property,
+            "text": "(self)",
+            "read": (staticmethod, "(line)"),
+            "__eq__": "(self, other)",
+        },
+        "Book": {
+            "__init__": "(self, *signatures)",
+            "__len__": "(self)",
+            "__contains__": "(self, name)",
+            "__getitem__": "(self, name)",
+            "__iter__": "(self)",
+            "__or__": "(self, other)",
+        },
+    },
+    expressions: {
+        "Expression": {
+            "MOST_NODES": 20,
+            "read": (classmethod, "(cls, text)"),
+            "nodes": property,
+            "__len__": "(self)",
+            "first": "(self, at)",
+            "text": "(self)",
+            "part_text": "(self, at, *, named=None)",
+            "__eq__": "(self, other)",
+        },
+    },
+    errors: {
+        "LivesError": {"__init__": "(self, what)"},
+        "DeadLook": {"__init__": "(self, row, what)"},
+    },
+}
+
+
+class InterfaceTest(unittest.TestCase):
+    def check_member(self, owner, name, expected):
+        self.assertIn(name, vars(owner))
+        member = vars(owner)[name]
+        if expected is property:
+            self.assertIsInstance(member, property)
+        elif isinstance(expected, tuple):
+            self.assertIsInstance(member, expected[0])
+            self.assertEqual(str(inspect.signature(member.__func__)), expected[1])
+        elif isinstance(expected, str):
+            self.assertTrue(inspect.isfunction(member))
+            self.assertEqual(str(inspect.signature(member)), expected)
+        else:
+            self.assertEqual(member, expected)
+
+    def test_functions(self):
+        for module, functions in FUNCTIONS.items():
+            for name, arguments in functions.items():
+                with self.subTest(module=module.__name__, name=name):
+                    function = getattr(module, name)
+                    self.assertEqual(function.__module__, module.__name__)
+                    self.assertEqual(str(inspect.signature(function)), arguments)
+
+    def test_classes(self):
+        for module, classes in CLASSES.items():
+            for name, members in classes.items():
+                owner = getattr(module, name)
+                self.assertEqual(owner.__module__, module.__name__)
+                for member, expected in members.items():
+                    with self.subTest(owner=name, member=member):
+                        self.check_member(owner, member, expected)
+
+    def test_errors_are_defined_in_their_file(self):
+        for error in [errors.LivesError] + errors.LivesError.__subclasses__():
+            self.assertEqual(error.__module__, "unnamedlives.errors")
+            self.assertIs(getattr(errors, error.__name__), error)
+
+
+if __name__ == "__main__":
+    unittest.main()

@@ -1,0 +1,1 @@
+"""How long values without a name live, and which references outlive them."""

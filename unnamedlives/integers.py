@@ -1,0 +1,9 @@
+"""What counts as an integer."""
+
+
+def is_integer_in(thing, low, high):
+    """True if the thing is an integer from low to high, otherwise False.
+
+    Python counts True and False as integers; here they are none.
+    """
+    return isinstance(thing, int) and not isinstance(thing, bool) and low <= thing <= high
