@@ -3,10 +3,22 @@
 import inspect
 import unittest
 
-from unnamedlives import errors, expressions, signatures, words
+from unnamedlives import errors, evaluating, expressions, programs, rows, signatures, summaries, words
 
 FUNCTIONS = {
     words: {"is_name": "(text)"},
+    evaluating: {
+        "options": "(expression, book)",
+        "is_choice": "(expression, book, choice)",
+        "evaluated": "(expression, choice)",
+        "outcome": "(expression, book, choice)",
+    },
+    summaries: {
+        "results": "(expression, book)",
+        "looked_at": "(expression, book)",
+        "choice_for_result": "(expression, book, wanted)",
+        "choice_for_look": "(expression, book, name)",
+    },
 }
 CLASSES = {
     signatures: {
@@ -35,6 +47,32 @@ CLASSES = {
             "first": "(self, at)",
             "text": "(self)",
             "part_text": "(self, at, *, named=None)",
+            "__eq__": "(self, other)",
+        },
+    },
+    rows: {
+        "Row": {
+            "__init__": "(self, kind, *, name='', expression=None)",
+            "text": "(self)",
+            "read": (staticmethod, "(text)"),
+            "__eq__": "(self, other)",
+        },
+    },
+    programs: {
+        "Program": {
+            "MOST_ROWS": 48,
+            "MOST_NAMES": 16,
+            "MOST_NODES": 100,
+            "MOST_DEPTH": 8,
+            "__init__": "(self, book, outs, rows)",
+            "__len__": "(self)",
+            "__getitem__": "(self, k)",
+            "__iter__": "(self)",
+            "names": "(self)",
+            "kind_of": "(self, name)",
+            "row_of": "(self, name)",
+            "text": "(self)",
+            "read": (classmethod, "(cls, text)"),
             "__eq__": "(self, other)",
         },
     },
