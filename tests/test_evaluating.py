@@ -3,31 +3,13 @@ import unittest
 
 from kinds import HUGE, NO_INTEGERS, NO_LISTS, same
 from making import all_choices, allowed_at, some_book, some_expression
+from naive import visit
 from unnamedlives.errors import BadChoice, UnknownFunction
 from unnamedlives.evaluating import evaluated, is_choice, options, outcome
 from unnamedlives.expressions import Expression
 from unnamedlives.signatures import Book, Signature
 
 F2 = Book(Signature("f", 2, sources=(1, 2)))
-
-
-def visit(nodes, book, choice, at, steps, events):
-    """What node `at` gives, evaluated in the order of its operands; notes the nodes and the events."""
-    node = nodes[at]
-    if node[0] == "pick":
-        given = visit(nodes, book, choice, node[choice[at]], steps, events)
-    elif node[0] == "call":
-        arguments = [visit(nodes, book, choice, i, steps, events) for i in node[2]]
-        events += [("look", given) for given in arguments]
-        if book[node[1]].fresh:
-            events.append(("birth", at))
-        given = at if book[node[1]].fresh else arguments[choice[at] - 1]
-    else:
-        given = node[1]
-        for i in [i for i in node[1:] if node[0] != "name"]:
-            given = visit(nodes, book, choice, i, steps, events)
-    steps.append(at)
-    return given
 
 
 def some_cases(number, count, most):

@@ -3,7 +3,9 @@
 import inspect
 import unittest
 
-from unnamedlives import errors, evaluating, expressions, programs, rows, signatures, summaries, words
+from unnamedlives import (
+    errors, evaluating, expressions, layout, lifetimes, machine, orders, programs, rows, signatures, summaries, words,
+)
 
 FUNCTIONS = {
     words: {"is_name": "(text)"},
@@ -18,6 +20,32 @@ FUNCTIONS = {
         "looked_at": "(expression, book)",
         "choice_for_result": "(expression, book, wanted)",
         "choice_for_look": "(expression, book, name)",
+    },
+    layout: {
+        "depth": "(program, k)",
+        "closer": "(program, k)",
+        "after": "(program, k)",
+        "in_scope": "(program, k)",
+        "references": "(program, k)",
+    },
+    lifetimes: {
+        "site": "(k, i)",
+        "temporaries": "(program, k)",
+        "extended": "(program, k)",
+        "loose": "(program, k)",
+        "shown": "(expression, book)",
+        "made": "(program)",
+        "end_row": "(program, value)",
+        "deaths": "(program, k)",
+    },
+    orders: {
+        "above": "(expression, i, j)",
+        "together": "(program, one, other)",
+        "dies_first": "(program, one, other)",
+    },
+    machine: {
+        "what_if": "(machine, choices)",
+        "replay": "(program, run, *, strict=True)",
     },
 }
 CLASSES = {
@@ -74,6 +102,17 @@ CLASSES = {
             "text": "(self)",
             "read": (classmethod, "(cls, text)"),
             "__eq__": "(self, other)",
+        },
+    },
+    machine: {
+        "Machine": {
+            "__init__": "(self, program, *, strict=True)",
+            "__call__": "(self, choice)",
+            "events": "(self)",
+            "value_of": "(self, name)",
+            "told": "(self, number)",
+            "alive": "(self, number)",
+            "end": "(self, name)",
         },
     },
     errors: {

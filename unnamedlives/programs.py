@@ -48,7 +48,8 @@ def read_lines(text):
     signatures = []
     outs = []
     rows = []
-    for j, line in enumerate(text.split("\n") if text else [], start=1):
+    lines = text.split("\n") if text != "" else []
+    for j, line in enumerate(lines, start=1):
         is_head = line.startswith("fun ") or line.startswith("out ")
         if is_head and (outs or rows):
             raise InvalidLine(j)
