@@ -1,7 +1,9 @@
 """Expressions and programs made by chance, for the tests."""
 
 import itertools
+import random
 
+from unnamedlives.programs import Program
 from unnamedlives.signatures import Book, Signature
 
 
@@ -34,10 +36,11 @@ def some_expression(chance, book, names, most):
 class Maker:
     """Makes the rows of a program, which keep the rules of scopes and blocks."""
 
-    def __init__(self, chance, book, outs, nodes):
+    def __init__(self, chance, book, outs, nodes, tag=""):
         self.chance = chance
         self.book = book
         self.nodes = nodes
+        self.tag = tag
         self.frames = [("program", [(name, "out") for name in outs])]
         self.lines = []
         self.many = 0
@@ -50,7 +53,7 @@ class Maker:
         return some_expression(self.chance, self.book, names, self.chance.randint(1, self.nodes))[0]
 
     def declare(self, kind):
-        name = f"{kind[0]}{self.many}"
+        name = f"{kind[0]}{self.tag}{self.many}"
         self.many += 1
         self.lines.append(f"{kind} {name} = {self.expression()}")
         self.frames[-1][1].append((name, kind))
@@ -81,10 +84,10 @@ class Maker:
                 self.frames.append((kind, []))
 
 
-def some_program(chance, rows, outs=("a", "b"), nodes=5):
-    """The text of a program with about so many rows."""
-    book = some_book(chance)
-    maker = Maker(chance, book, outs, nodes)
+def some_program(chance, rows, outs=("a", "b"), nodes=5, book=None, tag=""):
+    """The text of a program with about so many rows. The tag is a part of all names that it declares."""
+    book = some_book(chance) if book is None else book
+    maker = Maker(chance, book, outs, nodes, tag)
     for _ in range(rows):
         if len(maker.frames) < 7:
             maker.row()
@@ -93,6 +96,29 @@ def some_program(chance, rows, outs=("a", "b"), nodes=5):
     if outs:
         head.append(" ".join(["out", *outs]))
     return "\n".join(head + maker.lines)
+
+
+def some_programs(number, count, rows=14, nodes=5, outs=("b", "a")):
+    """Programs with up to so many rows and some of the outs."""
+    chance = random.Random(number)
+    for _ in range(count):
+        some = outs[:chance.randint(0, len(outs))]
+        yield Program.read(some_program(chance, chance.randint(0, rows), outs=some, nodes=nodes))
+
+
+def some_pairs(number, count, rows=7, outs=("b", "a", "c")):
+    """Pairs of programs with the same outs, no other common name and one book."""
+    chance = random.Random(number)
+    for _ in range(count):
+        book, some = some_book(chance), outs[:chance.randint(0, len(outs))]
+        texts = [some_program(chance, chance.randint(0, rows), some, 3, book, tag) for tag in "pq"]
+        yield Program.read(texts[0]), Program.read(texts[1])
+
+
+def full_program(result, last, outs=tuple(f"a{i}" for i in range(16))):
+    """A program at all bounds: 16 outs that are set 33 times to each other or to another result, in seven loops."""
+    rows = [f"set {outs[i % 16]} = pick({outs[(i + 1) % 16]},{result})" for i in range(33)] + [last]
+    return Program.read("\n".join(["out " + " ".join(outs)] + ["loop"] * 7 + rows + ["end"] * 7))
 
 
 def allowed_at(node, book):

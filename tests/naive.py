@@ -212,3 +212,50 @@ def births(program, plan, k, alive, lasts):
         if way not in ways:
             ways.append(way)
     return ways
+
+
+def outcomes(program, k):
+    """The results of the expression of row k over all choices, and the looks of the row."""
+    row, given, looks = program[k], set(), set()
+    nodes = row.expression.nodes
+    for choice in all_choices(row.expression, program.book):
+        seen = []
+        result = visit(nodes, program.book, choice, len(nodes) - 1, [], seen)
+        given.add(result)
+        looks |= {what for kind, what in seen if kind == "look" and isinstance(what, str)}
+        if row.kind in ("use", "val") and isinstance(result, str):
+            looks.add(result)
+    return given, {name for name in looks if program.kind_of(name) != "val"}
+
+
+def bound_at(program, k):
+    """The reference that row k binds, None if there is none."""
+    return program[k].name if k <= len(program) and program[k].kind in ("ref", "set") else None
+
+
+def facts_made(program, plan, k):
+    """The facts that come from the results of row k that are no references."""
+    if bound_at(program, k) is None:
+        return set()
+    lasts, facts = {text: lasts for text, _, lasts in listed(program)}, set()
+    for thing in outcomes(program, k)[0]:
+        if isinstance(thing, int):
+            end = str(plan.depth[k]) if lasts[f"{k}.{thing}"] else f"{k}.{thing}"
+            facts.add((k + 1, bound_at(program, k), end))
+        elif program.kind_of(thing) == "val":
+            facts.add((k + 1, bound_at(program, k), str(plan.depth[program.row_of(thing)])))
+    return facts
+
+
+def facts_after(program, plan, fact):
+    """The facts to which a fact leads in one step."""
+    k, name, end = fact
+    facts = set()
+    for q in plan.after[k]:
+        if name in plan.scope[q] and name != bound_at(program, k):
+            is_closed = plan.kinds[k] in ("else", "end")
+            made_at = plan.depth[int(end.split(".")[0])] if "." in end else int(end) if end.isdigit() else 0
+            facts.add((q, name, "dead" if is_closed and made_at == plan.depth[k] else end))
+    if bound_at(program, k) is not None and name in outcomes(program, k)[0]:
+        facts.add((k + 1, bound_at(program, k), end))
+    return facts

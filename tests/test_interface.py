@@ -4,7 +4,8 @@ import inspect
 import unittest
 
 from unnamedlives import (
-    errors, evaluating, expressions, layout, lifetimes, machine, orders, programs, rows, signatures, summaries, words,
+    effects, errors, evaluating, expressions, layout, levels, lifetimes, machine, naming, orders, parting, pieces, programs,
+    report, rows, runs, signatures, summaries, tables, words,
 )
 
 FUNCTIONS = {
@@ -47,6 +48,29 @@ FUNCTIONS = {
         "what_if": "(machine, choices)",
         "replay": "(program, run, *, strict=True)",
     },
+    tables: {"explore": "(program)"},
+    levels: {
+        "least_numbers": "(program)",
+        "is_closed": "(program, table)",
+        "reach": "(program)",
+        "quick": "(program)",
+    },
+    runs: {
+        "shortest_fault": "(program)",
+        "run_to": "(program, place, name, end)",
+    },
+    naming: {
+        "needed": "(program)",
+        "named": "(program, lot)",
+        "mended": "(program)",
+    },
+    pieces: {
+        "effect": "(program)",
+        "effect_by_parts": "(program)",
+        "inserted": "(program, k, piece)",
+    },
+    parting: {"parting": "(piece, other)"},
+    report: {"report": "(program)"},
 }
 CLASSES = {
     signatures: {
@@ -113,6 +137,32 @@ CLASSES = {
             "told": "(self, number)",
             "alive": "(self, number)",
             "end": "(self, name)",
+        },
+    },
+    tables: {
+        "Lives": {
+            "DEAD": 99,
+            "ends": "(self, place, name)",
+            "number": "(self, place, name)",
+            "steps_to": "(self, place)",
+            "distance": "(self, place, name, end)",
+            "cause": "(self, place, name, end)",
+            "faults": "(self)",
+            "accepted": property,
+            "walk": "(self)",
+        },
+    },
+    effects: {
+        "Effect": {
+            "__init__": "(self, outs, *, looks=(), gives=None, faulty=False)",
+            "looks": property,
+            "gives": "(self, out)",
+            "nothing": (classmethod, "(cls, outs)"),
+            "__or__": "(self, other)",
+            "__rshift__": "(self, other)",
+            "repeated": "(self)",
+            "may_replace": "(self, other)",
+            "__eq__": "(self, other)",
         },
     },
     errors: {

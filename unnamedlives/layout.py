@@ -47,3 +47,8 @@ def in_scope(program, k):
 def references(program, k):
     """The list of the references in scope before row k, or at the end of the program."""
     return [name for name in in_scope(program, k) if program.kind_of(name) != "val"]
+
+
+def every_reference(program):
+    """The list of all references of the program, in the order of its names."""
+    return [name for name in program.names() if program.kind_of(name) != "val"]
