@@ -14,6 +14,8 @@ BUILTINS = set(
     " all divmod super property staticmethod classmethod Exception ValueError TypeError KeyError IndexError"
     " LookupError NotImplemented iter next map".split()
 )
+# Without the name that Python itself sets when it shows a value.
+BUILT_IN = set(dir(builtins)) - {"_"}
 DUNDERS = set(
     "__init__ __eq__ __len__ __call__ __iter__ __contains__ __getitem__ __or__ __rshift__ __repr__ __str__".split()
 )
@@ -137,7 +139,7 @@ class FormTest(unittest.TestCase):
             if path.name != "__pycache__":
                 self.assertIn(path, PATHS)
                 self.assertRegex(path.name, r"^[a-z_][a-z0-9_]*\.py$")
-                self.assertFalse(path.stem in dir(builtins) or path.stem in NEVER)
+                self.assertFalse(path.stem in BUILT_IN or path.stem in NEVER)
 
     def test_characters_and_sizes(self):
         for path in PATHS:
@@ -176,7 +178,7 @@ class FormTest(unittest.TestCase):
         for stem, tree in self.trees.items():
             names = list(top_names(tree))
             self.assertEqual(sorted(names), sorted(set(names)), stem)
-            self.assertFalse(set(names) & set(dir(builtins)), stem)
+            self.assertFalse(set(names) & BUILT_IN, stem)
             for at, node in enumerate(tree.body):
                 if isinstance(node, ast.Assign):
                     self.assertEqual((len(node.targets), is_plain(node.value)), (1, True), stem)
@@ -203,14 +205,14 @@ class FormTest(unittest.TestCase):
         decorators = ("property", "staticmethod", "classmethod")
         self.every(ast.FunctionDef, lambda node, tree: all(each.id in decorators for each in node.decorator_list))
         self.every(ast.FunctionDef, lambda node, tree: has_plain_default_values(node))
-        taken = set(dir(builtins)) | NEVER
+        taken = BUILT_IN | NEVER
         self.every(ast.FunctionDef, lambda node, tree: not set(bound_names(node)) & taken)
         self.every(ast.FunctionDef, lambda node, tree: not set(bound_names(node)) & set(top_names(tree)))
 
     def test_names(self):
         self.every(ast.Name, lambda node, tree: re.fullmatch("_?[A-Za-z][A-Za-z0-9_]*|_", node.id))
         self.every(ast.Name, lambda node, tree: node.id != "_" or isinstance(node.ctx, ast.Store))
-        self.every(ast.Name, lambda node, tree: node.id in BUILTINS or node.id not in dir(builtins))
+        self.every(ast.Name, lambda node, tree: node.id in BUILTINS or node.id not in BUILT_IN)
         self.every(ast.Attribute, lambda node, tree: re.fullmatch("_?[A-Za-z][A-Za-z0-9_]*|__init__", node.attr))
         allowed = METHODS | {"__init__"}
         self.every(ast.Attribute, lambda node, tree: node.attr in allowed or node.attr not in BUILTIN_ATTRIBUTES)

@@ -1,7 +1,7 @@
 """Surroundings that show that one piece may not replace another one."""
 
 from unnamedlives.effects import added
-from unnamedlives.errors import OtherOuts, TooLarge
+from unnamedlives.errors import TooLarge
 from unnamedlives.naming import new_names
 from unnamedlives.pieces import effect
 from unnamedlives.programs import Program
@@ -35,10 +35,9 @@ def surrounding(one, other, names):
 
 def parting(piece, other):
     """None if the piece may replace the other one, otherwise a surrounding, and the place, where it may not."""
-    if piece.outs != other.outs:
-        raise OtherOuts(other.outs)
     one = effect(piece)
     two = effect(other)
+    # This also raises the error for other outs.
     if one.may_replace(two):
         return None
     if len(piece.outs) > MOST_OUTS:

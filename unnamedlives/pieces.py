@@ -2,7 +2,7 @@
 
 from unnamedlives.effects import Effect
 from unnamedlives.errors import DuplicateName, NotReference, UnknownName
-from unnamedlives.layout import check_place, every_reference, in_scope
+from unnamedlives.layout import every_reference, in_scope
 from unnamedlives.lifetimes import deaths, extended, site
 from unnamedlives.programs import Program
 from unnamedlives.rows import Row
@@ -96,8 +96,7 @@ def effect_by_parts(program):
 
 
 def check_insertion(program, k, piece):
-    """Raises an error if the names of the piece do not fit ahead of row k of the program."""
-    check_place(program, k)
+    """Raises an error if k is no place of the program, or the names of the piece do not fit there."""
     names = in_scope(program, k)
     for out in piece.outs:
         if out not in names:

@@ -64,9 +64,7 @@ class Step:
         return [name for name in names if name != self._bound and self._program.is_in_scope(q, name)]
 
     def _left(self, end):
-        """What the end is after the step, if the row does not bind the reference."""
-        if self._closed == 0:
-            return end
+        """What the end is after the step, if the row does not bind the reference; no depth is 0."""
         if "." in end:
             row = int(end.partition(".")[0])
             return "dead" if depth(self._program, row) == self._closed else end
