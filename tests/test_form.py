@@ -35,6 +35,7 @@ STATEMENTS = (
     ast.Expr, ast.Assign, ast.AugAssign, ast.If, ast.While, ast.For, ast.Return, ast.Break, ast.Continue, ast.Pass,
     ast.Raise, ast.Assert, ast.Delete, ast.Try, ast.FunctionDef, ast.ClassDef, ast.ImportFrom,
 )
+CHANGING = set("append clear extend insert pop remove reverse setdefault sort update add discard".split())
 NOT_USED = (ast.Import, ast.Div, ast.MatMult, ast.Lambda, ast.Await, ast.NamedExpr, ast.Global, ast.Nonlocal)
 
 
@@ -112,6 +113,66 @@ def is_identity_allowed(node, tree):
             if not isinstance(right, ast.Constant) or right.value not in (None, True, False):
                 return False
     return True
+
+
+def held(node):
+    """The names, attributes and items, as texts, whose list or dict a value is or may be."""
+    if isinstance(node, ast.IfExp):
+        return held(node.body) | held(node.orelse)
+    if isinstance(node, ast.BoolOp):
+        return set().union(*map(held, node.values))
+    if isinstance(node, (ast.Name, ast.Attribute, ast.Subscript)):
+        return {ast.unparse(node)}
+    return set()
+
+
+def gone_over(node):
+    """What a loop goes over that has this node behind its `in`; a list of its own has no name."""
+    called = node.func if isinstance(node, ast.Call) else None
+    if isinstance(called, ast.Name) and called.id in ("enumerate", "zip", "reversed"):
+        return set().union(*map(gone_over, node.args))
+    if isinstance(called, ast.Attribute) and called.attr in ("items", "keys", "values"):
+        return held(called.value)
+    return held(node)
+
+
+def assigned(function):
+    """The pairs of a target and a value of the assignments in a function."""
+    for node in ast.walk(function):
+        for target in node.targets if isinstance(node, ast.Assign) else []:
+            yield target, node.value
+            if isinstance(target, ast.Tuple) and isinstance(node.value, ast.Tuple):
+                yield from zip(target.elts, node.value.elts)
+
+
+def with_other_names(function, texts):
+    """The texts, and those that may be other names of the same lists and dicts somewhere in the function."""
+    groups = [held(target) | held(value) for target, value in assigned(function) if held(value)]
+    known, before = set(texts), None
+    while known != before:
+        before = known
+        known = known.union(*[group for group in groups if group & known])
+    return known
+
+
+def changed(node):
+    """What a node changes itself, without the nodes inside it."""
+    if isinstance(node, ast.Call) and isinstance(node.func, ast.Attribute) and node.func.attr in CHANGING:
+        return held(node.func.value)
+    if isinstance(node, ast.AugAssign):
+        return held(node.target)
+    if isinstance(node, ast.Subscript) and not isinstance(node.ctx, ast.Load):
+        return held(node.value)
+    return set()
+
+
+def changing_loops(function):
+    """The lines of the loops and comprehensions in which what they go over is changed, also by another name."""
+    for node in ast.walk(function):
+        sources = [node.iter] if isinstance(node, ast.For) else [each.iter for each in getattr(node, "generators", [])]
+        texts = with_other_names(function, set().union(*map(gone_over, sources)))
+        if any(changed(inner) & texts for inner in ast.walk(node)):
+            yield node.lineno
 
 
 class FormTest(unittest.TestCase):
@@ -208,6 +269,29 @@ class FormTest(unittest.TestCase):
         taken = BUILT_IN | NEVER
         self.every(ast.FunctionDef, lambda node, tree: not set(bound_names(node)) & taken)
         self.every(ast.FunctionDef, lambda node, tree: not set(bound_names(node)) & set(top_names(tree)))
+
+    def test_loops_do_not_change_what_they_go_over(self):
+        wrong = [f"{stem}.py:{line}" for stem, node in self.nodes(ast.FunctionDef) for line in changing_loops(node)]
+        self.assertEqual(wrong, [])
+
+    def test_changing_loops_are_found(self):
+        for rows, lines in [
+            ("for x in xs:\n  xs.append(x)", [2]),
+            ("ys = xs\nfor x in xs:\n  ys.append(x)", [3]),
+            ("while xs:\n  ys = []\n  for x in xs:\n    ys.append(x)\n  xs = ys", [4]),
+            ("ys, zs = xs, 1\nfor k, x in enumerate(ys):\n  xs[k] = x", [3]),
+            ("ys = xs if xs else []\nfor x in ys:\n  del xs[x]", [3]),
+            ("for k, x in box.rows.items():\n  box.rows.pop(k)", [2]),
+            ("for x in xs or ys:\n  ys += [x]", [2]),
+            ("ys = box.rows\nzs = ys\nfor x in reversed(zs):\n  box.rows.clear()", [4]),
+            ("zs = [xs.pop() for x in xs]", [2]),
+            ("for x in list(xs):\n  xs.append(x)", []),
+            ("ys = list(xs)\nfor x in xs:\n  ys.append(x)", []),
+            ("ys = []\nfor x in xs:\n  ys.append(x)", []),
+            ("ys = xs\nfor x in ys:\n  total += x", []),
+        ]:
+            source = "def f():\n" + "".join(f"  {row}\n" for row in rows.split("\n"))
+            self.assertEqual(list(changing_loops(ast.parse(source).body[0])), lines, rows)
 
     def test_names(self):
         self.every(ast.Name, lambda node, tree: re.fullmatch("_?[A-Za-z][A-Za-z0-9_]*|_", node.id))

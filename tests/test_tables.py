@@ -8,9 +8,12 @@ from making import full_program, some_programs
 from naive import Plan, facts_after, facts_made, outcomes
 from unnamedlives.errors import NoFact, NoPlace, UnknownName
 from unnamedlives.layout import references
+from unnamedlives.machine import replay
 from unnamedlives.programs import Program
+from unnamedlives.runs import run_to, shortest_fault
 from unnamedlives.tables import Lives, explore
 
+BOTH_PARTS = "out a b\nval v = b\nref x = a\nloop\nif\nset x = v\nelse\nset x = pick(b,new())\nend\nuse x\nend"
 LOOP = "val a = new()\nref x = a\nloop\nuse x\nval b = new()\nset x = b\nend"
 PICK = "fun f 1 1\nref x = pick(new(),f(new()))"
 
@@ -155,6 +158,27 @@ class EndsTest(Case):
         self.assertEqual(ends(text, "x"), {4: ["2"], 5: ["2"]})
         self.assertTrue(explore(Program.read(text)).accepted)
 
+    def test_a_loop_with_an_if_and_a_set_row_in_both_parts(self):
+        p = Program.read(BOTH_PARTS)
+        t, steps = explore(p), [0, 1, 2, 3, 4, 5, 4, 5, 6, 7, 3]
+        self.assertEqual([t.steps_to(k) for k in range(1, 12)], steps)
+        # x comes to the loop with the end of a, and with three other ends after a round.
+        first = {3: 2, 4: 3, 5: 4, 7: 4, 11: 3}
+        later = {3: 8, 4: 9, 5: 10, 7: 10, 9: 6, 10: 7, 11: 9}
+        expected = {(k, name, name): steps[k - 1] for k in range(1, 12) for name in ["a", "b"]}
+        expected.update({(k, "x", "a"): first[k] for k in first})
+        expected.update({(k, "x", end): later[k] for k in later for end in ["1", "b", "dead"]})
+        expected.update({(6, "x", "1"): 5, (8, "x", "b"): 5, (8, "x", "7.1"): 5})
+        self.assertEqual(list(t.walk()), sorted(expected))
+        self.assertEqual({fact: t.distance(*fact) for fact in t.walk()}, expected)
+        self.assertEqual([t.faults(), t.accepted, t.number(8, "x"), t.number(6, "x"), t.number(9, "x")],
+                         [[(9, "x", "dead")], False, 99, 1, 99])
+        for fact in expected:
+            m = replay(p, run_to(p, *fact), strict=False)
+            self.assertEqual((m.place, fact[1], m.end(fact[1])), fact)
+        self.assertEqual([len(run_to(p, *fact)) for fact in expected], list(expected.values()))
+        self.assertEqual(len(shortest_fault(p)), 7)
+
     def test_programs_by_all_their_states(self):
         for p in some_programs(1, 250):
             with self.subTest(text=p.text()):
@@ -196,6 +220,17 @@ class CauseTest(Case):
                          [2, None, None, (3, "x", "dead")])
         self.assertEqual([t.distance(5, "x", "4.0"), t.distance(6, "x", "dead"), t.cause(3, "x", "dead")],
                          [4, 6, (5, "x", "4.0")])
+
+    def test_causes_in_a_loop_with_a_set_row_in_both_parts(self):
+        t = explore(Program.read(BOTH_PARTS))
+        for fact, cause in [
+            ((1, "a", "a"), None), ((3, "x", "a"), (2, "a", "a")), ((11, "x", "a"), (3, "x", "a")), ((6, "x", "1"), None),
+            ((9, "x", "1"), (6, "x", "1")), ((8, "x", "b"), (7, "b", "b")), ((8, "x", "7.1"), None),
+            ((9, "x", "b"), (8, "x", "b")), ((9, "x", "dead"), (8, "x", "7.1")), ((10, "x", "dead"), (9, "x", "dead")),
+            ((3, "x", "1"), (10, "x", "1")), ((7, "x", "dead"), (4, "x", "dead")), ((11, "x", "dead"), (3, "x", "dead")),
+            ((9, "a", "a"), [(6, "a", "a"), (8, "a", "a")]), ((3, "b", "b"), (2, "b", "b")),
+        ]:
+            self.assertIn(t.cause(*fact), cause if isinstance(cause, list) else [cause], fact)
 
     def test_the_shorter_way_is_the_cause(self):
         t = explore(Program.read("out a b\nif\nset a = b\nelse\nuse a\nset a = b\nend\nuse a"))

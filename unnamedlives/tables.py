@@ -165,21 +165,24 @@ class Lives:
         yield from self._facts
 
 
+def ways_from(steps, sources):
+    """The list of the pairs of one of these facts and a fact to which it leads in one step."""
+    return [(fact, other) for fact in sources if fact[0] in steps for other in steps[fact[0]].leads_to(fact)]
+
+
 def explore(program):
     """The table of the program."""
     steps = {k: Step(program, k) for k in range(1, len(program) + 1)}
     found = {(1, "", ""): (0, None)}
     for name in program.outs:
         found[(1, name, name)] = (0, None)
-    waiting = list(found)
+    latest = list(found)
     # All facts of one distance are done before those of the next one, so each is found first by a shortest run.
-    while waiting:
-        coming = []
-        for fact in waiting:
-            following = steps[fact[0]].leads_to(fact) if fact[0] in steps else []
-            for other in following:
-                if other not in found:
-                    found[other] = (found[fact][0] + 1, fact)
-                    coming.append(other)
-        waiting = coming
+    while latest:
+        ways = ways_from(steps, latest)
+        latest = []
+        for fact, other in ways:
+            if other not in found:
+                found[other] = (found[fact][0] + 1, fact)
+                latest.append(other)
     return Lives(program, found)
